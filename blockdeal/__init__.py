@@ -1,0 +1,1 @@
+"""Blockdeal: addresses dealt out in blocks of halves."""

@@ -1,0 +1,120 @@
+"""What the tests share: addresses told one by one or in stretches, straight from what a block is."""
+
+import itertools
+import random
+
+
+class Text(str):
+    """A text that is of a kind of its own."""
+
+
+def nested(depth, core=0, wrap=lambda thing: (thing,)):
+    """A thing wrapped so many times."""
+    for _ in range(depth):
+        core = wrap(core)
+    return core
+
+
+def strange_things():
+    """Things of many kinds, none of which is a block or a patch of any row."""
+    return [
+        None, True, False, 0, 1, -1, 2 ** 64, -(2 ** 70), "", "0", "*", "(0, 1)", "01", Text("01"),
+        b"", b"\x00\x01", bytearray(b"\x00\x01"), [], [0, 1], [(0, 1)], [[0, 1]], {}, {0: 1}, {(0, 1): 0},
+        {(0, 1)}, frozenset([(0, 1)]), set(), range(2), iter(()), iter((0, 1)), object(), len, int, tuple,
+        lambda: (0, 1), NotImplemented, ..., ValueError("no"), strange_things,
+        nested(58), nested(59, ()), nested(60, wrap=lambda thing: [thing]), nested(60, wrap=lambda thing: {0: thing}),
+        nested(59, wrap=lambda thing: (thing, thing)), nested(59, wrap=lambda thing: (0, thing)),
+        nested(59, wrap=lambda thing: (thing, 0)),
+    ]
+
+
+def spoilt_blocks():
+    """Tuples that are nearly a block, but a block of no row; none but the empty one is a patch."""
+    return [
+        (), (0,), (0, 0, 0), (0, 0, None), ((0, 0), 0), (0, (0, 0)),
+        (True, 0), (False, 0), (0, True), (0, False), (False, False), (True, False),
+        ("0", 0), (0, "0"), ("", ""), (None, 0), (0, None), (None, None), (b"\x00", 0), (0, b""),
+        ([0], 0), (0, [0]), ({}, 0), (0, {}), (0, -1), (0, -64), (0, -(2 ** 70)), (0, 2 ** 70),
+        (1, 1), (-1, 0), (-2, 1), (-(2 ** 64), 0), (2 ** 200, 0), (2 ** 200, 2 ** 200), (nested(58), 0), (0, nested(58)), (0, object()),
+    ]
+
+
+def all_blocks(bits):
+    """Each block of a row."""
+    return [(begin, height) for height in range(bits + 1) for begin in range(0, 2 ** bits, 2 ** height)]
+
+
+def addresses(blocks):
+    """The set of all addresses of some blocks, of a narrow row."""
+    return {address for begin, height in blocks for address in range(begin, begin + 2 ** height)}
+
+
+def disjoint(blocks):
+    """Whether no address is in two of the blocks."""
+    return len(addresses(blocks)) == sum(2 ** height for begin, height in blocks)
+
+
+def block_sets(bits):
+    """Each choice of blocks of a row, rising."""
+    blocks = sorted(all_blocks(bits))
+    return [chosen for many in range(len(blocks) + 1) for chosen in itertools.combinations(blocks, many)]
+
+
+def all_patches(bits):
+    """Each patch of a row."""
+    return [chosen for chosen in block_sets(bits) if disjoint(chosen)]
+
+
+def stretches(wanted, *groups):
+    """The pairs (first, behind the last) of the addresses that are wanted, as told by which groups have them."""
+    steps = {}
+    for place, blocks in enumerate(groups):
+        for begin, height in blocks:
+            steps.setdefault(begin, [0] * len(groups))[place] += 1
+            steps.setdefault(begin + 2 ** height, [0] * len(groups))[place] -= 1
+    depths = [0] * len(groups)
+    told = []
+    begin = None
+    for at in sorted(steps):
+        depths = [depth + step for depth, step in zip(depths, steps[at])]
+        inside = wanted(*[depth > 0 for depth in depths])
+        if inside and begin is None:
+            begin = at
+        if not inside and begin is not None:
+            told.append((begin, at))
+            begin = None
+    return told
+
+
+def stretches_of(blocks):
+    """The stretches of the addresses of any of the blocks."""
+    return stretches(lambda there: there, blocks)
+
+
+def chance(seed):
+    """A source of the same numbers in each run."""
+    return random.Random(seed)
+
+
+def some_block(source, bits, heights=None):
+    """A block of a row, of any height or of one of some heights."""
+    height = source.choice(heights or range(bits + 1))
+    return (source.randrange(2 ** (bits - height)) << height, height)
+
+
+def some_patch(source, bits, many, heights=None):
+    """A patch of at most so many blocks of a row, which needn't be fewest."""
+    chosen = []
+    for _ in range(many):
+        begin, height = some_block(source, bits, heights)
+        end = begin + 2 ** height
+        if all(end <= other or other + 2 ** tall <= begin for other, tall in chosen):
+            chosen.append((begin, height))
+    return tuple(sorted(chosen))
+
+
+def is_plain(thing):
+    """Whether a thing is made of tuples and whole numbers alone."""
+    if type(thing) is tuple:
+        return all(is_plain(part) for part in thing)
+    return type(thing) is int

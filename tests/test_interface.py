@@ -1,0 +1,33 @@
+"""The interface: modules, names and arguments as the document has them."""
+
+import importlib
+import inspect
+import unittest
+
+INTERFACE = {
+    "blocks": {
+        "is_block": ["bits", "thing"], "size_of": ["block"], "holds": ["one", "other"], "apart": ["one", "other"],
+        "halves": ["block"], "around": ["block", "height"], "other_half": ["block"],
+    },
+    "beginnings": {"beginning": ["bits", "block"], "block_of": ["bits", "text"]},
+    "patches": {
+        "is_patch": ["bits", "thing"], "is_fewest": ["patch"], "count_of": ["patch"], "fewest": ["blocks"],
+        "span": ["low", "high"], "rest_of": ["bits", "patch"], "both": ["one", "other"], "without": ["one", "other"],
+        "block_with": ["patch", "address"],
+    },
+}
+
+
+class Interface(unittest.TestCase):
+    def test_names_and_arguments(self):
+        for module, names in INTERFACE.items():
+            found = importlib.import_module(f"blockdeal.{module}")
+            for name, arguments in names.items():
+                with self.subTest(module=module, name=name):
+                    asked = inspect.signature(getattr(found, name)).parameters
+                    self.assertEqual(list(asked), arguments)
+                    self.assertEqual({one.default for one in asked.values()}, {inspect.Parameter.empty})
+
+
+if __name__ == "__main__":
+    unittest.main()
