@@ -77,7 +77,8 @@ class IsFewest(unittest.TestCase):
 
     def test_not_fewest(self):
         for patch in [((0, 0), (1, 0)), ((0, 63), (2 ** 63, 63)), ((0, 0), (2, 0), (3, 0)),
-                      ((TOP - 2, 0), (TOP - 1, 0)), ((0, 0), (1, 0), (2, 1)), ((0, 1), (2, 0), (3, 0)), ((1, 0), (2, 1), (4, 1), (6, 1), (8, 0))]:
+                      ((TOP - 2, 0), (TOP - 1, 0)), ((0, 0), (1, 0), (2, 1)), 
+                      ((0, 1), (2, 0), (3, 0)), ((1, 0), (2, 1), (4, 1), (6, 1), (8, 0))]:
             self.assertIs(is_fewest(patch), False, patch)
 
     def test_beside_one_another_but_no_halves_of_one_block(self):
