@@ -4,7 +4,7 @@ What is told is reckoned over runs: a run is a pair (low, high) of the addresses
 in a list rise and never touch, so a block whose addresses are all there lies within one of them.
 """
 
-from blockdeal.blocks import is_block, other_half, size_of
+from blockdeal.blocks import holds, is_block, other_half, size_of
 
 
 def is_patch(bits, thing):
@@ -63,10 +63,44 @@ def without(one, other):
 
 def block_with(patch, address):
     """The block of a patch that has the address, or None."""
-    for block in patch:
-        if block[0] <= address < end_of(block):
-            return block
+    at = ended_by(patch, address)
+    if at < len(patch) and patch[at][0] <= address:
+        return patch[at]
     return None
+
+
+def block_about(patch, block):
+    """The block of a patch that holds the block, or None."""
+    found = block_with(patch, block[0])
+    if found is not None and holds(found, block):
+        return found
+    return None
+
+
+def has_all(patch, block):
+    """Whether all addresses of a block are in a patch that is fewest."""
+    # In a patch that isn't fewest they might be there in several blocks.
+    return block_about(patch, block) is not None
+
+
+def has_none(patch, block):
+    """Whether no address of a block is in a patch."""
+    at = ended_by(patch, block[0])
+    return at == len(patch) or end_of(block) <= patch[at][0]
+
+
+def ended_by(patch, address):
+    """How many blocks of a patch have no address from this one on."""
+    low = 0
+    high = len(patch)
+    # The blocks ahead of low end so early, those from high on don't.
+    while low < high:
+        middle = (low + high) // 2
+        if end_of(patch[middle]) <= address:
+            low = middle + 1
+        else:
+            high = middle
+    return low
 
 
 def end_of(block):

@@ -114,6 +114,35 @@ def some_patch(source, bits, many, heights=None):
     return tuple(sorted(chosen))
 
 
+def rule_sets(bits, many):
+    """Each choice of so many rules of a row, rising."""
+    for chosen in itertools.combinations(sorted(all_blocks(bits)), many):
+        for signs in itertools.product((0, 1), repeat=many):
+            yield tuple(zip(chosen, signs))
+
+
+def ones_by(bits, rules):
+    """The set of the addresses of a narrow row that rules decide 1: greater blocks first, lesser ones over them."""
+    signs = [0] * 2 ** bits
+    for (begin, height), sign in sorted(rules, key=lambda rule: -rule[0][1]):
+        signs[begin:begin + 2 ** height] = [sign] * 2 ** height
+    return frozenset(address for address, sign in enumerate(signs) if sign == 1)
+
+
+def some_rules(source, bits, many, heights=None):
+    """At most so many rules of a row."""
+    blocks = sorted({some_block(source, bits, heights) for _ in range(many)})
+    return tuple((block, source.randrange(2)) for block in blocks)
+
+
+def near_points(source, bits, points):
+    """An address of a row, often one at an edge of a block about one of some points."""
+    address = source.choice(points) if points and source.random() < 0.8 else source.randrange(2 ** bits)
+    height = source.randrange(bits + 1)
+    begin = address >> height << height
+    return source.choice([address, begin, begin + 2 ** height - 1, max(begin - 1, 0)])
+
+
 def is_plain(thing):
     """Whether a thing is made of tuples and whole numbers alone."""
     if type(thing) is tuple:

@@ -15,6 +15,9 @@ INTERFACE = {
         "span": ["low", "high"], "rest_of": ["bits", "patch"], "both": ["one", "other"], "without": ["one", "other"],
         "block_with": ["patch", "address"],
     },
+    "rules": {"are_rules": ["bits", "thing"], "decided": ["rules", "address"], "patch_by": ["bits", "rules"]},
+    "fewrules": {"fewest_rules": ["bits", "patch"], "many_rules": ["bits", "patch"]},
+    "rulepapers": {"rules_paper": ["bits", "patch"], "shows_many": ["bits", "patch", "many", "paper"]},
 }
 
 

@@ -4,7 +4,7 @@ import itertools
 import unittest
 
 from blockdeal.patches import (
-    block_with, both, count_of, fewest, is_fewest, is_patch, rest_of, span, without,
+    block_about, block_with, both, count_of, fewest, has_all, has_none, is_fewest, is_patch, rest_of, span, without,
 )
 from tests.helper import addresses, all_blocks, all_patches, block_sets, chance, disjoint, some_patch
 
@@ -101,6 +101,16 @@ class Small(unittest.TestCase):
                 for address in range(2 ** bits):
                     found = [block for block in patch if address in addresses([block])]
                     self.assertEqual(block_with(patch, address), found[0] if found else None)
+
+    def test_each_block_beside_every_patch(self):
+        for bits in (1, 2, 3):
+            for patch in all_patches(bits):
+                for block in all_blocks(bits):
+                    own = addresses([block])
+                    about = [other for other in patch if own <= addresses([other])]
+                    self.assertEqual(block_about(patch, block), about[0] if about else None)
+                    self.assertIs(has_none(patch, block), not own & addresses(patch))
+                    self.assertIs(has_all(fewest(patch), block), own <= addresses(patch))
 
 
 class AddressByAddress(unittest.TestCase):
