@@ -40,6 +40,14 @@ def spoilt_blocks():
     ]
 
 
+def no_names():
+    """Things of many kinds, none of which is a name."""
+    return [
+        "", "abcdefghi", "A", "aB", "a1", "1", "a b", " a", "a ", "a\n", "\n", "-", "a-b", "`", "{", "a`", "z{", "@",
+        "[", "~", "\u00e4", "\u0430", "a\u0301", Text("a1"), b"a", 0, 1, True, None, (), ("a",), ["a"], {"a"}, nested(58),
+    ]
+
+
 def all_blocks(bits):
     """Each block of a row."""
     return [(begin, height) for height in range(bits + 1) for begin in range(0, 2 ** bits, 2 ** height)]
@@ -141,6 +149,60 @@ def near_points(source, bits, points):
     height = source.randrange(bits + 1)
     begin = address >> height << height
     return source.choice([address, begin, begin + 2 ** height - 1, max(begin - 1, 0)])
+
+
+def overlap(one, other):
+    """Whether two blocks have an address together."""
+    return one[0] < other[0] + 2 ** other[1] and other[0] < one[0] + 2 ** one[1]
+
+
+def named_patches(bits, names):
+    """Each rising tuple of pairs (block, name) of a row, the blocks apart."""
+    return [tuple(zip(patch, chosen)) for patch in all_patches(bits)
+            for chosen in itertools.product(names, repeat=len(patch))]
+
+
+def names_agree(outs, kept):
+    """Whether blocks of outs and of kept that have an address together have one name."""
+    return all(name == theirs or not overlap(one, other) for one, name in outs for other, theirs in kept)
+
+
+def all_deals(bits, names):
+    """Each deal of a row with some names."""
+    shares = named_patches(bits, names)
+    return [(bits, outs, kept) for outs in shares for kept in shares if names_agree(outs, kept)]
+
+
+def some_deal(source, bits, many, names=("a", "b", "c"), heights=None):
+    """A deal of a row with at most so many blocks out and as many kept."""
+    outs = [(block, source.choice(names)) for block in some_patch(source, bits, many, heights)]
+    kept = []
+    for block in some_patch(source, bits, many):
+        fitting = [name for name in names if names_agree(outs, [(block, name)])]
+        if fitting:
+            kept.append((block, source.choice(fitting)))
+    return (bits, tuple(outs), tuple(kept))
+
+
+def free_addresses(deal, name):
+    """The set of the addresses of a narrow row that are free for a name, or for all for None."""
+    bits, outs, kept = deal
+    out = addresses([block for block, theirs in outs])
+    return set(range(2 ** bits)) - out - addresses([block for block, theirs in kept if theirs != name])
+
+
+def greatest_blocks(bits, there):
+    """The blocks whose addresses are all there and that are held by no other such block, rising."""
+    inside = [block for block in all_blocks(bits) if addresses([block]) <= there]
+    return tuple(sorted((begin, height) for begin, height in inside
+                        if (begin >> height + 1 << height + 1, height + 1) not in inside))
+
+
+def is_told(thing):
+    """Whether a thing is made of tuples, whole numbers, texts and None alone."""
+    if type(thing) is tuple:
+        return all(is_told(part) for part in thing)
+    return thing is None or type(thing) in (int, str)
 
 
 def is_plain(thing):

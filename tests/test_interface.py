@@ -18,6 +18,13 @@ INTERFACE = {
     "rules": {"are_rules": ["bits", "thing"], "decided": ["rules", "address"], "patch_by": ["bits", "rules"]},
     "fewrules": {"fewest_rules": ["bits", "patch"], "many_rules": ["bits", "patch"]},
     "rulepapers": {"rules_paper": ["bits", "patch"], "shows_many": ["bits", "patch", "many", "paper"]},
+    "errors": {"NoText": ["row"]},
+    "deals": {
+        "is_deal": ["thing"], "free_for": ["deal", "name"], "out_to": ["deal", "name"], "holder": ["deal", "address"],
+    },
+    "deeds": {"is_deed": ["bits", "thing"]},
+    "dealing": {"done": ["deal", "deed"]},
+    "refusals": {"had": ["deal", "name", "height"], "shows_none": ["deal", "name", "height", "paper"]},
 }
 
 

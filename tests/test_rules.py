@@ -3,6 +3,7 @@
 import copy
 import itertools
 import unittest
+from unittest.mock import ANY
 
 from blockdeal.patches import count_of, is_fewest, is_patch
 from blockdeal.rules import are_rules, decided, patch_by
@@ -59,7 +60,7 @@ class AreRules(unittest.TestCase):
             self.assertIs(are_rules(narrow, ((block, 1),)), False)
 
     def test_no_sign(self):
-        for place, sign in enumerate([2, -1, TOP, -TOP, True, False, None, "0", "1", "", b"\x01", (), (1,), [1], {}]):
+        for place, sign in enumerate([2, -1, TOP, -TOP, True, False, None, "0", "1", "", b"\x01", (), (1,), [1], ANY]):
             self.assertIs(are_rules(3, (((0, 1), sign),)), False, place)
             self.assertIs(are_rules(3, (((0, 0), 0), ((0, 1), sign), ((4, 0), 1))), False, place)
 
