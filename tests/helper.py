@@ -44,7 +44,8 @@ def no_names():
     """Things of many kinds, none of which is a name."""
     return [
         "", "abcdefghi", "A", "aB", "a1", "1", "a b", " a", "a ", "a\n", "\n", "-", "a-b", "`", "{", "a`", "z{", "@",
-        "[", "~", "\u00e4", "\u0430", "a\u0301", Text("a1"), b"a", 0, 1, True, None, (), ("a",), ["a"], {"a"}, nested(58),
+        "[", "~", "\u00e4", "\u0430", "a\u0301", Text("a1"), b"a", 0, 1, True, None, (), ("a",), ["a"], {"a"},
+        nested(58),
     ]
 
 

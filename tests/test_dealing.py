@@ -269,7 +269,8 @@ class Refused(Deeds):
         # Nothing is free for "a" here, and nothing of "c" is out or kept.
         for deed in [
             ("take", "a", 4), ("take", "a", -1), ("take", "a", True), ("take", "A", 0), ("take", "a"),
-            ("take", "a", 0, 0), ("near", "a", 4, 0), ("near", "a", 0, 8), ("near", "a", 0, -1), ("near", "a", 0), ("near", "a", 0, None),
+            ("take", "a", 0, 0), ("near", "a", 4, 0), ("near", "a", 0, 8), ("near", "a", 0, -1), ("near", "a", 0),
+            ("near", "a", 0, None),
             ("give", "c", (8, 0)), ("give", "c", (1, 1)), ("give", "c", [0, 0]), ("give", "c"), ("grow", "c", (0, 4)),
             ("keep", "a", (0, 4)), ("keep", "", (0, 0)), ("loose", "c", 0), ("loose", "c", (0, 0), None),
             ("move", "c", (0, 1), (0, 0)), ("move", "a", (0, 1), (4, 2)), ("move", "a", (0, 1), (8, 1)),

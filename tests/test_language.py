@@ -136,6 +136,19 @@ class Rows(unittest.TestCase):
         for where, node in nodes(ast.For, ast.While):
             self.assertEqual(node.orelse, [], f"{where}: L6")
 
+    def test_errors_are_made_on_the_spot(self):
+        classes = {node.name for where, node in nodes(ast.ClassDef)}
+        for where, node in nodes(ast.Raise):
+            if node.exc is not None:
+                self.assertIsInstance(node.exc, ast.Call, f"{where}: L19")
+                self.assertIn(ast.unparse(node.exc.func), classes | OWN_NAMES, f"{where}: L19")
+
+    def test_classes_hold_methods_alone(self):
+        for where, node in nodes(ast.ClassDef):
+            self.assertLessEqual(len(node.bases), 1, f"{where}: L5")
+            for row in node.body[1:] if ast.get_docstring(node) else node.body:
+                self.assertIsInstance(row, ast.FunctionDef, f"{where}: L5")
+
     def test_powers_are_written(self):
         for where, node in nodes(ast.BinOp):
             if isinstance(node.op, ast.Pow):
