@@ -211,3 +211,55 @@ def is_plain(thing):
     if type(thing) is tuple:
         return all(is_plain(part) for part in thing)
     return type(thing) is int
+
+
+def mask(block):
+    """The addresses of a block of a narrow row, as the bits of a number."""
+    begin, height = block
+    return (1 << 2 ** height) - 1 << begin
+
+
+def busy_for(deal, name):
+    """The addresses of a narrow row that aren't free for a name, as the bits of a number."""
+    bits, outs, kept = deal
+    taken = [block for block, theirs in outs] + [block for block, theirs in kept if theirs != name]
+    return sum(mask(block) for block in fewest_masks(taken))
+
+
+def fewest_masks(blocks):
+    """The blocks that no other one holds, each once, so that their masks can be summed."""
+    return [block for block in set(blocks)
+            if not any(other[1] > block[1] and overlap(block, other) for other in blocks)]
+
+
+def open_places(deal, name, height):
+    """The blocks of a height of a narrow row that are wholly free for a name."""
+    busy = busy_for(deal, name)
+    blocks = [(begin, height) for begin in range(0, 2 ** deal[0], 2 ** height)] if height <= deal[0] else []
+    return [block for block in blocks if not busy & mask(block)]
+
+
+def moves_there(deal, stays):
+    """Each move that can be done to a deal of a narrow row, with the stand behind it."""
+    bits, outs, kept = deal
+    for block, name in outs:
+        if name not in stays:
+            for to in open_places(deal, name, block[1]):
+                others = [pair for pair in outs if pair != (block, name)]
+                yield ("move", name, block, to), tuple(sorted(others + [(to, name)]))
+
+
+def levels_there(deal, name, height, stays, most):
+    """The levels by how many moves at least, and the word: up to a free block, to the end, or to more than most."""
+    bits, outs, kept = deal
+    levels, known, level = [], {outs}, {outs}
+    while True:
+        if any(open_places((bits, stand, kept), name, height) for stand in level):
+            return "moves", levels
+        if not level:
+            return "never", levels
+        levels.append(tuple(sorted(level)))
+        if len(known) > most:
+            return "open", levels
+        level = {behind for stand in level for move, behind in moves_there((bits, stand, kept), stays)} - known
+        known |= level

@@ -2,6 +2,7 @@
 
 import importlib
 import inspect
+import operator
 import unittest
 
 INTERFACE = {
@@ -25,6 +26,15 @@ INTERFACE = {
     "deeds": {"is_deed": ["bits", "thing"]},
     "dealing": {"done": ["deal", "deed"]},
     "refusals": {"had": ["deal", "name", "height"], "shows_none": ["deal", "name", "height", "paper"]},
+    "moves": {"least_moves": ["deal", "name", "height", "stays", "most"]},
+    "movelooks": {
+        "shows_moves": ["deal", "name", "height", "stays", "moves", "levels"],
+        "shows_never": ["deal", "name", "height", "stays", "levels"],
+    },
+    "dealers": {
+        "Dealer": ["bits"], "Dealer.do": ["deed"], "Dealer.deal": [], "Dealer.journal": [], "Dealer.back": [],
+        "Dealer.lists": [], "Dealer.can": ["name", "height"],
+    },
 }
 
 
@@ -34,9 +44,11 @@ class Interface(unittest.TestCase):
             found = importlib.import_module(f"blockdeal.{module}")
             for name, arguments in names.items():
                 with self.subTest(module=module, name=name):
-                    asked = inspect.signature(getattr(found, name)).parameters
-                    self.assertEqual(list(asked), arguments)
-                    self.assertEqual({one.default for one in asked.values()}, {inspect.Parameter.empty})
+                    asked = inspect.signature(operator.attrgetter(name)(found)).parameters
+                    own = ["self"] if "." in name else []
+                    self.assertEqual(list(asked), own + arguments)
+                    for one in asked.values():
+                        self.assertIs(one.default, inspect.Parameter.empty)
 
 
 if __name__ == "__main__":

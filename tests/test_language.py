@@ -149,6 +149,22 @@ class Rows(unittest.TestCase):
             for row in node.body[1:] if ast.get_docstring(node) else node.body:
                 self.assertIsInstance(row, ast.FunctionDef, f"{where}: L5")
 
+    def test_no_name_is_a_method_and_a_value(self):
+        methods = [row.name for where, node in nodes(ast.ClassDef) for row in node.body if isinstance(row, ast.FunctionDef)]
+        values = {node.attr for where, node in nodes(ast.Attribute) if isinstance(node.ctx, ast.Store)}
+        self.assertEqual(values & set(methods), set(), "L18")
+        parts = list(nodes(ast.Call, ast.Attribute))
+        called = [node.func for where, node in parts if isinstance(node, ast.Call)]
+        for where, node in parts:
+            if isinstance(node, ast.Attribute) and isinstance(node.ctx, ast.Load) and node not in called:
+                self.assertIn(node.attr, values, f"{where}: L18, L25")
+
+    def test_walked_at_once(self):
+        for where, node in nodes(ast.Assign, ast.Return):
+            if isinstance(node.value, ast.Call):
+                called = ast.unparse(node.value.func).split(".")[-1]
+                self.assertNotIn(called, ("range", "zip", "enumerate", "reversed", "items", "keys", "values"), f"{where}: L23")
+
     def test_powers_are_written(self):
         for where, node in nodes(ast.BinOp):
             if isinstance(node.op, ast.Pow):
