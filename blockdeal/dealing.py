@@ -88,7 +88,12 @@ def done(deal, deed):
 
 def fitting(deal, name, height):
     """The block of a height that the name takes, or None where there is no room for one."""
-    fits = [(tall, begin) for begin, tall in free_for(deal, name) if tall >= height]
+    return first_fit(free_for(deal, name), height)
+
+
+def first_fit(free, height):
+    """The first block of a height in the least block of a patch that is great enough, or None."""
+    fits = [(tall, begin) for begin, tall in free if tall >= height]
     if not fits:
         return None
     tall, begin = min(fits)

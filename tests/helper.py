@@ -263,3 +263,16 @@ def levels_there(deal, name, height, stays, most):
             return "open", levels
         level = {behind for stand in level for move, behind in moves_there((bits, stand, kept), stays)} - known
         known |= level
+
+
+def spoilt(source, parts, others):
+    """A list with a thing left out, another put in, two exchanged, or another in place of one."""
+    place = source.randrange(len(parts) + 1)
+    way = source.randrange(4)
+    if way == 0:
+        return parts[:place] + parts[place + 1:]
+    if way == 1:
+        return parts[:place] + [source.choice(others)] + parts[place:]
+    if way == 2:
+        return parts[:place] + parts[place:place + 2][::-1] + parts[place + 2:]
+    return parts[:place] + [source.choice(others)] + parts[place + 1:]

@@ -35,6 +35,14 @@ INTERFACE = {
         "Dealer": ["bits"], "Dealer.do": ["deed"], "Dealer.deal": [], "Dealer.journal": [], "Dealer.back": [],
         "Dealer.lists": [], "Dealer.can": ["name", "height"],
     },
+    "houses": {
+        "is_house": ["bits", "thing"], "House": ["bits", "dealers"], "House.ask": ["dealer", "person", "height"],
+        "House.give": ["dealer", "person", "block"], "House.has": ["dealer"], "House.outs": ["dealer"],
+        "House.free": ["dealer"], "House.path": ["address"],
+    },
+    "showing": {"show_deal": ["deal"], "show_rules": ["bits", "rules"]},
+    "reading": {"read_deal": ["text"], "read_rules": ["bits", "text"]},
+    "desk": {"Desk": ["text"], "Desk.say": ["line"]},
 }
 
 

@@ -443,7 +443,7 @@ class WordByWord(unittest.TestCase):
                 stays = source.choice(STAYS)
                 for kind, many in self.each_is_right(source, deal, name, height, stays, most).items():
                     taken[kind] += many
-        self.assertGreater(min(taken.values()), 20, taken)
+        self.assertGreater(min(taken.values()), 2, taken)
 
     def test_told_in_eight_bits(self):
         for outs in [(((0, 6), "a"), ((70, 0), "b")), (((0, 6), "a"), ((64, 6), "b"), ((130, 1), "a"))]:
